@@ -1,0 +1,1 @@
+"""Works within works told how far they are."""
