@@ -85,17 +85,9 @@ class Course:
         return True
 
     def _takes_again(self, name):
-        for leaf in self._leaves(name):
+        for leaf in self.leaves(name):
             self._did[leaf] = 0
         return True
-
-    def _leaves(self, name):
-        if name in self._did:
-            return [name]
-        leaves = []
-        for part in self._parts[name]:
-            leaves.extend(self._leaves(part))
-        return leaves
 
     def top(self):
         """The plan's own name."""
@@ -104,6 +96,20 @@ class Course:
     def has(self, name):
         """Whether a work of the plan has this name; what is handed in may be of any kind."""
         return is_name(name) and name in self._kinds
+
+    def leaves(self, name):
+        """The names of all leaves in the work, in their turn; of a leaf its own."""
+        if name in self._did:
+            return [name]
+        leaves = []
+        for part in self._parts[name]:
+            leaves.extend(self.leaves(part))
+        return leaves
+
+    def undone(self, leaf):
+        """How many steps of the leaf are left, None where its steps aren't known."""
+        steps = self._steps[leaf]
+        return None if steps is None else steps - self._did[leaf]
 
     def far(self, name):
         """How far the work is, a share."""

@@ -5,9 +5,11 @@ MOST_STEPS = 1000
 MOST_WEIGHT = 100
 
 
-def is_number(value, least, most):
-    """Whether the value is a number from the least to the most."""
-    return isinstance(value, int) and not isinstance(value, bool) and least <= value <= most
+def is_number(value, least, most=None):
+    """Whether the value is a number from the least to the most; None is no most."""
+    if not isinstance(value, int) or isinstance(value, bool):
+        return False
+    return least <= value and (most is None or value <= most)
 
 
 def is_name(value):

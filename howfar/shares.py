@@ -2,6 +2,8 @@
 
 from math import gcd
 
+from howfar.forms import is_number
+
 NOTHING = (0, 1)
 WHOLE = (1, 1)
 
@@ -12,6 +14,14 @@ def share(over, under):
     return over // common, under // common
 
 
+def is_share(value):
+    """Whether the value is a share from 0 on, maybe more than the whole."""
+    if not isinstance(value, tuple) or len(value) != 2:
+        return False
+    over, under = value
+    return is_number(over, 0) and is_number(under, 1) and gcd(over, under) == 1
+
+
 def is_less(one, other):
     """Whether the one share is less than the other."""
     return one[0] * other[1] < other[0] * one[1]
@@ -20,6 +30,11 @@ def is_less(one, other):
 def times(one, other):
     """The one share of the other."""
     return share(one[0] * other[0], one[1] * other[1])
+
+
+def plus(one, other):
+    """Both shares together."""
+    return share(one[0] * other[1] + other[0] * one[1], one[1] * other[1])
 
 
 def lacking(one):

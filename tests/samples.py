@@ -33,6 +33,11 @@ def shape(work):
     return kind, work.name(), work.steps(), [(weight, shape(part)) for weight, part in work.parts()]
 
 
+def pair(fraction):
+    """The share that a fraction is."""
+    return fraction.numerator, fraction.denominator
+
+
 def leaves(names, weight=1, steps=10):
     """Parts of one weight: a leaf for each letter."""
     return [(weight, Leaf(name, steps)) for name in names]

@@ -12,6 +12,9 @@ WORK_METHODS = {"name": "self", "parts": "self", "steps": "self", "names": "self
 FUNCTIONS = {
     "runs": {"far": "plan, run, name=None", "told": "plan, run", "falls": "plan, run",
              "worth": "plan, name, run=None", "became": "plan, run"},
+    "times": {"left": "plan, run, paces"},
+    "hands": {"joined": "tallies"},
+    "showing": {"few": "shares, off", "bar": "share, many=20", "percent": "share"},
 }
 CLASSES = {
     "works": {

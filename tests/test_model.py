@@ -9,8 +9,9 @@ from fractions import Fraction
 
 from howfar.errors import BadRun, BadWork
 from howfar.runs import became, falls, far, told, worth
+from howfar.times import left
 from howfar.works import Bundle, Leaf, Row
-from tests.samples import shape
+from tests.samples import pair, shape
 
 KINDS = {"row": Row, "bundle": Bundle}
 NAMES = ["a", "b", "zz", "stone", "longname", "c", "d", "e", "f", "g", "h", "i", "j", "k", "l", "m", "n", "o", "p",
@@ -45,6 +46,15 @@ class Node:
         for weight, part in self.parts:
             worths.update(part.worths(own * weight / sum(each for each, _ in self.parts)))
         return worths
+
+    def leaves(self):
+        return [node for node in self.all() if node.kind == "leaf"]
+
+    def left(self, ticks):
+        if self.kind == "leaf":
+            return (self.steps - self.did) * ticks[self.name]
+        each = [part.left(ticks) for _, part in self.parts]
+        return sum(each) if self.kind == "row" else max(each)
 
     def shape(self):
         return self.kind, self.name, self.steps, [(weight, part.shape()) for weight, part in self.parts]
@@ -108,10 +118,6 @@ def drawn_telling(draw, model):
     return word, name, draw.randint(1, 4)
 
 
-def pair(fraction):
-    return fraction.numerator, fraction.denominator
-
-
 class Model(unittest.TestCase):
     def drawn(self, draw):
         """A plan of the model that is one; what is none is refused by the works as well."""
@@ -123,12 +129,22 @@ class Model(unittest.TestCase):
             with self.assertRaises(BadWork):
                 model.work()
 
-    def check(self, seed):
+    def check_left(self, draw, plan, run, model):
+        least = {leaf.name: draw.choice([0, 1, 7, 1000]) for leaf in model.leaves()}
+        most = {name: draw.randint(least[name], 1000) for name in least}
+        names = draw.sample(list(least), len(least))
+        expected = None
+        if all(leaf.steps is not None for leaf in model.leaves()):
+            expected = model.left(least), model.left(most)
+        self.assertEqual(left(plan, run, {name: (least[name], most[name]) for name in names}), expected)
+
+    def check(self, seed, many):
+        """Hold a run of so many tellings at the most against the model."""
         draw = random.Random(seed)
         model = self.drawn(draw)
         plan = model.work()
         run, shown, fallen, nearest = [], [Fraction(0)], [], Fraction(0)
-        for _ in range(draw.randint(1, 40)):
+        for _ in range(many):
             telling = drawn_telling(draw, model)
             before = model.far()
             if not model.take(telling):
@@ -143,6 +159,7 @@ class Model(unittest.TestCase):
             if now < before:
                 fallen.append(len(run) - 1)
             shown.append(nearest)
+            self.check_left(draw, plan, run, model)
         self.assertEqual(told(plan, run), [pair(share) for share in shown])
         self.assertEqual(falls(plan, run), fallen)
         self.assertEqual(shape(became(plan, run)), model.shape())
@@ -155,7 +172,12 @@ class Model(unittest.TestCase):
     def test_many_runs(self):
         for seed in range(600):
             with self.subTest(seed=seed):
-                self.check(seed)
+                self.check(seed, many=1 + seed * 7 % 40)
+
+    def test_long_runs(self):
+        for seed in range(600, 610):
+            with self.subTest(seed=seed):
+                self.check(seed, many=400)
 
 
 if __name__ == "__main__":

@@ -175,7 +175,8 @@ class Found(RunTest):
         for elder in (Row, Bundle):
             self.assert_run(elder("x", leaves("abcde")), [("found", "x", 1, "f", 1)])
             self.assert_last_is_none(elder("x", leaves("abcdef")), [("found", "x", 1, "g", 1)])
-            self.assert_last_is_none(elder("x", leaves("abcde")), [("found", "x", 1, "f", 1), ("found", "x", 1, "g", 1)])
+            run = [("found", "x", 1, "f", 1), ("found", "x", 1, "g", 1)]
+            self.assert_last_is_none(elder("x", leaves("abcde")), run)
 
     def test_up_to_20_works(self):
         run = [("found", "bundlea", 1, "new", 1)]
