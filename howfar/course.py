@@ -1,6 +1,6 @@
 """The course of a run: what a plan has become, and what its leaves did."""
 
-from howfar.errors import BadRun
+from howfar.errors import BadName, BadRun
 from howfar.forms import is_name, is_telling
 from howfar.shares import NOTHING, WHOLE, share, times, weighed
 from howfar.trees import LEAF, MOST_PARTS, MOST_WORKS
@@ -45,6 +45,25 @@ class Course:
         if not self._takes(telling):
             raise BadRun(self._many)
         self._many += 1
+
+    def take_back(self, telling, did):
+        """Take back the last telling that was taken; ahead of it the leaves did so much."""
+        self._many -= 1
+        self._did = dict(did)
+        match telling:
+            case ("knows", name, _):
+                self._steps[name] = None
+            case ("found", name, _, leaf, _):
+                # Found parts stand behind the others, and those found later are taken back by now.
+                self._parts[name].pop()
+                del self._kinds[leaf], self._elders[leaf], self._weights[leaf], self._steps[leaf]
+            case _:
+                # Else it changed only what the leaves did.
+                pass
+
+    def did(self):
+        """How many steps each leaf did, a dict by the leaves' names."""
+        return dict(self._did)
 
     def _takes(self, telling):
         if not is_telling(telling) or not self.has(telling[1]):
@@ -149,3 +168,12 @@ def course_of(plan, run):
     for telling in tellings_of(run):
         course.take(telling)
     return course
+
+
+def far_in(course, name=None):
+    """How far the work of this name is now, the plan itself for None, or BadName."""
+    if name is None:
+        return course.far(course.top())
+    if not course.has(name):
+        raise BadName("no work has this name")
+    return course.far(name)

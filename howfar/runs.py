@@ -1,6 +1,6 @@
 """What a run of a plan tells: how far the works are, and what the plan has become."""
 
-from howfar.course import Course, course_of, tellings_of
+from howfar.course import Course, course_of, far_in, tellings_of
 from howfar.errors import BadName
 from howfar.shares import NOTHING, is_less, nearer
 from howfar.works import work_of
@@ -8,12 +8,7 @@ from howfar.works import work_of
 
 def far(plan, run, name=None):
     """How far the work of this name is behind the run, a share; the plan itself for None."""
-    course = course_of(plan, run)
-    if name is None:
-        return course.far(course.top())
-    if not course.has(name):
-        raise BadName("no work has this name")
-    return course.far(name)
+    return far_in(course_of(plan, run), name)
 
 
 def told(plan, run):
@@ -50,8 +45,8 @@ def became(plan, run):
 def plan_fars(plan, run):
     """How far the plan is at first and behind each telling, a list of shares."""
     course = Course(plan)
-    fars = [course.far(course.top())]
+    fars = [far_in(course)]
     for telling in tellings_of(run):
         course.take(telling)
-        fars.append(course.far(course.top()))
+        fars.append(far_in(course))
     return fars

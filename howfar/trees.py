@@ -20,6 +20,17 @@ def names_in(tree):
     return names
 
 
+def leaf_steps(tree):
+    """The steps of each leaf in the tree, a dict by the leaves' names."""
+    kind, name, steps, parts = tree
+    if kind == LEAF:
+        return {name: steps}
+    known = {}
+    for _, part in parts:
+        known.update(leaf_steps(part))
+    return known
+
+
 def levels(tree):
     """How many works are within one another at the most, the tree itself counted."""
     deepest = 0

@@ -139,5 +139,10 @@ def is_part(value):
     """Whether the value is a pair of a weight and a work."""
     if not isinstance(value, tuple) or len(value) != 2:
         return False
+    return is_weight(value[0]) and is_work(value[1])
+
+
+def is_work(value):
+    """Whether the value is a leaf, a row or a bundle."""
     # Not Work itself: what is made of it alone is none of the three.
-    return is_weight(value[0]) and isinstance(value[1], (Leaf, Row, Bundle))
+    return isinstance(value, (Leaf, Row, Bundle))

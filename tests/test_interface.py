@@ -15,6 +15,8 @@ FUNCTIONS = {
     "times": {"left": "plan, run, paces"},
     "hands": {"joined": "tallies"},
     "showing": {"few": "shares, off", "bar": "share, many=20", "percent": "share"},
+    "plans": {"apart": "one, other"},
+    "texts": {"written": "plan", "read": "text", "written_run": "run", "read_run": "text"},
 }
 CLASSES = {
     "works": {
@@ -28,6 +30,10 @@ CLASSES = {
         "BadRun": ("FarError", {}), "BadPaces": ("FarError", {}), "BadTallies": ("FarError", {}),
         "BadShares": ("FarError", {}), "BadSize": ("FarError", {}), "Unlike": ("FarError", {}),
         "BadRows": ("FarError", {}), "NoDeed": ("FarError", {}),
+    },
+    "watch": {
+        "Watch": (None, {"__init__": "self, plan", "tell": "self, telling", "undo": "self", "far": "self, name=None",
+                         "told": "self", "run": "self", "bar": "self, many=20"}),
     },
 }
 

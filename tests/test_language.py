@@ -101,6 +101,38 @@ class Language(unittest.TestCase):
                     names.append(node.name)
             self.assertEqual(len(names), len(set(names)), path)
 
+    def test_l15_no_local_name_hides_an_import_or_a_class(self):
+        for path, tree in self.trees.items():
+            outer = {alias.name for node in tree.body if isinstance(node, ast.ImportFrom) for alias in node.names}
+            outer |= {node.name for node in tree.body if isinstance(node, ast.ClassDef)}
+            for function in ast.walk(tree):
+                if isinstance(function, ast.FunctionDef):
+                    local = {node.arg for node in ast.walk(function) if isinstance(node, ast.arg)}
+                    local |= {node.id for node in ast.walk(function) if isinstance(node, ast.Name)
+                              and isinstance(node.ctx, ast.Store)}
+                    local |= {node.name for node in ast.walk(function)
+                              if isinstance(node, (ast.MatchAs, ast.MatchStar))}
+                    self.assertEqual(local & outer, set(), (path, function.name))
+
+    def test_l6_captured_names_are_read_in_their_own_case_alone(self):
+        for place, function in self.nodes(ast.FunctionDef):
+            captured = {node.name for node in ast.walk(function) if isinstance(node, ast.MatchAs) and node.name}
+            bound = {node.arg for node in ast.walk(function) if isinstance(node, ast.arg)}
+            bound |= {node.id for node in ast.walk(function) if isinstance(node, ast.Name)
+                      and isinstance(node.ctx, ast.Store)}
+            self.assertEqual(captured & bound, set(), place)
+            read = [node for node in ast.walk(function) if isinstance(node, ast.Name) and node.id in captured]
+            within = [node for case in ast.walk(function) if isinstance(case, ast.match_case)
+                      for own in [{each.name for each in ast.walk(case.pattern) if isinstance(each, ast.MatchAs)}]
+                      for row in case.body for node in ast.walk(row) if isinstance(node, ast.Name) and node.id in own]
+            self.assertEqual(len(read), len(within), place)
+
+    def test_l20_is_stands_beside_none_true_and_false(self):
+        for place, node in self.nodes(ast.Compare):
+            for sign, right in zip(node.ops, node.comparators):
+                if isinstance(sign, (ast.Is, ast.IsNot)):
+                    self.assertIsInstance(right, ast.Constant, place)
+
     def test_l5_l18_classes(self):
         for place, node in self.nodes(ast.ClassDef):
             self.assertEqual(node.decorator_list, [], place)
